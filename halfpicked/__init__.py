@@ -1,0 +1,1 @@
+"""Halfpicked: half-way answers of covering webs."""
