@@ -46,7 +46,7 @@ class Flow:
         levels = [-1] * len(self._leaving)
         for node in starts:
             levels[node] = 0
-        border = list(starts)
+        border = starts
         while border:
             found = []
             for node in border:

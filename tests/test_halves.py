@@ -55,7 +55,8 @@ class Answers(unittest.TestCase):
         for value in (-1, 3, 10 ** 5000, *odd_integers()):
             self.wrong({"a": value, "b": 2, "c": 1})
             self.wrong({"a": 2, "b": 2, "c": value})
-        self.wrong({"abcdefgh": True}, LONE)
+        for value in (-1, 3, True, False):
+            self.wrong({"abcdefgh": value}, LONE)
         self.wrong({"a": True, "b": True, "c": True})
         self.wrong({"a": False, "b": 2, "c": False})
 
