@@ -72,12 +72,75 @@ def subsets(items):
             yield list(some)
 
 
+def all_covers(places, ties):
+    """All covers as tuples in ascending order, found by trying everything."""
+    chosen = (tuple(some) for some in subsets(sorted(places)))
+    return sorted(some for some in chosen if all(a in some or b in some for a, b in ties))
+
+
+def best_covers(places, ties, prices):
+    """The least cost of a cover and all covers with this cost, in ascending order."""
+    found = [(sum(prices[place] for place in cover), cover) for cover in all_covers(places, ties)]
+    least = min(cost for cost, _ in found)
+    return least, [cover for cost, cover in found if cost == least]
+
+
+def clusters(sizes, cross=()):
+    """Groups of numbered places that are all tied to each other, and some more ties across."""
+    groups = []
+    for size in sizes:
+        first = sum(len(group) for group in groups)
+        groups.append(list(range(first, first + size)))
+    return groups, sorted([tie for group in groups for tie in pairs(group)] + list(cross))
+
+
+def left_out(groups, cross):
+    """The best covers of clusters with equal prices: each leaves one place of each group out.
+
+    This holds if there is such a choice without a tie in it.
+    """
+    names = letters(sum(len(group) for group in groups))
+    found = []
+    for choice in itertools.product(*groups):
+        if not any(a in choice and b in choice for a, b in cross):
+            found.append(tuple(name for at, name in enumerate(names) if at not in choice))
+    return sorted(found)
+
+
+def numbered(many, ties, prices=None):
+    """The web of the first names, with ties between their numbers; the prices are 1 if none are given."""
+    names = letters(many)
+    prices = prices or [1] * many
+    return Web(tuple(names), [(names[a], names[b]) for a, b in ties], dict(zip(names, prices)))
+
+
+def patchwork(rng, sizes, density, price):
+    """A web of several parts with scattered names, and the parts as rows of places, ties and prices."""
+    names = letters(sum(sizes))
+    rng.shuffle(names)
+    rows = []
+    for size in sizes:
+        places, names = names[:size], names[size:]
+        ties = [tie for tie in pairs(places) if rng.random() < density]
+        rows.append((places, ties, {place: price() for place in places}))
+    return joined(rows), rows
+
+
+def joined(rows):
+    """The web of all these parts."""
+    prices = {place: price for _, _, some in rows for place, price in some.items()}
+    return Web(tuple(prices), [tie for _, ties, _ in rows for tie in ties], prices)
+
+
 class Columns:
     """A wide web in columns, with ties only inside a column and between neighbours.
 
     It is solved column by column, without any flow. `least_of(kept)` is the least cost of the
     answers with these values; `marginals` gives it for each single value of each place.
+    `cover_cost` is the least cost of a cover.
     """
+
+    values = (0, 1, 2)
 
     def __init__(self, rng, many, rows, density, price):
         names = letters(many * rows)
@@ -93,7 +156,7 @@ class Columns:
 
     def _states(self, k, kept):
         col = self.columns[k]
-        for values in itertools.product((0, 1, 2), repeat=len(col)):
+        for values in itertools.product(self.values, repeat=len(col)):
             x = dict(zip(col, values))
             if all(x[a] + x[b] >= 2 for a, b in self.inner[k]):
                 if all(kept.get(name, x[name]) == x[name] for name in col):
@@ -132,6 +195,13 @@ class Columns:
         _, there, _ = self._solved(kept)
         last = there[len(self.columns) - 1]
         return min(last.values()) if last else None
+
+    def cover_cost(self):
+        """A cover is an answer without halves, and costs half of it."""
+        self.values = (0, 2)
+        found = self.least_of({})
+        del self.values
+        return found // 2
 
     def marginals(self):
         states, there, back = self._solved({})

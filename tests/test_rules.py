@@ -78,6 +78,22 @@ class Rules(unittest.TestCase):
             if isinstance(node, ast.arg):
                 self.assertNotIn(node.arg, vars(builtins), where)
 
+    def test_names_of_imports_and_classes(self):
+        for path, tree in self.trees.items():
+            nodes = list(ast.walk(tree))
+            taken = {alias.name for node in nodes if isinstance(node, ast.ImportFrom) for alias in node.names}
+            taken |= {node.name for node in nodes if isinstance(node, ast.ClassDef)}
+            stored = {node.id for node in nodes if isinstance(node, ast.Name) and isinstance(node.ctx, ast.Store)}
+            stored |= {node.arg for node in nodes if isinstance(node, ast.arg)}
+            self.assertEqual(taken & stored, set(), path.name)
+
+    def test_generators(self):
+        functions = [node for _, node in self.nodes() if isinstance(node, ast.FunctionDef)]
+        names = [node.name for node in functions]
+        for node in functions:
+            if any(isinstance(part, (ast.Yield, ast.YieldFrom)) for part in ast.walk(node)):
+                self.assertEqual(names.count(node.name), 1, node.name)
+
 
 if __name__ == "__main__":
     unittest.main()
