@@ -306,6 +306,10 @@ class Limits(unittest.TestCase):
         self.assertIs(is_cover(web, names), True)
         self.assertEqual(cover_price(web, names), 40 * GREATEST)
         self.assertEqual(mended(web, dict.fromkeys(names, 1), names[:39]), names[:39])
+        x = dict(zip(names, [2] * 12 + [0] * 20 + [1] * 8))
+        self.assertEqual(mended(web, x, names[:39]), names[:12] + names[32:39])
+        self.assertEqual(softened(web, x, names[:39]), dict(zip(names, [2] * 12 + [1] * 28)))
+        self.assertEqual(softened(web, x, names[1:]), {**dict(zip(names, [2] * 12 + [1] * 28)), names[0]: 1})
         self.assertEqual(cover_cost(web), len(best(web)) * GREATEST)
         self.assertIs(is_cover(web, best(web)), True)
 
