@@ -2,6 +2,7 @@
 
 MOST_PLACES = 40
 MOST_TIES = 400
+MOST_ROWS = 400
 LONGEST_NAME = 8
 GREATEST_PRICE = 10 ** 30
 
@@ -34,9 +35,21 @@ def is_among(value, names):
     return isinstance(value, str) and value in names
 
 
+def is_literal(value, names):
+    """True for a tuple of one of these names and True or False."""
+    if not isinstance(value, tuple) or len(value) != 2:
+        return False
+    return is_among(value[0], names) and isinstance(value[1], bool)
+
+
 def has_just(value, keys):
     """True if the value is a dict with just these different keys."""
     return isinstance(value, dict) and len(value) == len(keys) and all([key in value for key in keys])
+
+
+def has_values(value, names):
+    """True for a dict of just these names to 0, 1 and 2."""
+    return has_just(value, names) and all([is_between(value[name], 0, 2) for name in names])
 
 
 def in_order(a, b):

@@ -115,14 +115,14 @@ def _need_both(web, x, cover):
 
 def _completed(web, x):
     """A best cover that does what the best answer x says where it is whole."""
-    return _joined(x, _search(web, [place for place in web.places() if x[place] == 1]).cover())
+    return _joined(x, _search(web, [place for place in web.places() if x[place] == 1]).cheapest())
 
 
 def _best_covers(web):
     """All best covers in ascending order."""
     values = fixed(web)
     # What is fixed is the same in all of them, and only fixed places are tied to a fixed 0.
-    covers = _search(web, [place for place in web.places() if place not in values]).covers()
+    covers = _search(web, [place for place in web.places() if place not in values]).all_cheapest()
     return sorted([_joined(values, cover) for cover in covers])
 
 
@@ -130,7 +130,9 @@ def _search(web, places):
     """The search over these places, if they are not too many."""
     if len(places) > MOST_SEARCHED:
         raise TooMany(MOST_SEARCHED)
-    return Search(web, places)
+    prices = {place: web.price(place) for place in places}
+    # Whoever leaves a place takes all places that are tied to it.
+    return Search(prices, {place: [([place], []), (web.near(place), [place])] for place in places})
 
 
 def _joined(values, cover):

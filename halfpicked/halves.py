@@ -1,17 +1,13 @@
 """Half-way answers: covers by halves, best ones, and the tie prices that show their worth."""
 
-from halfpicked.checks import has_just, is_between, is_integer
+from halfpicked.checks import has_just, has_values, is_integer
 from halfpicked.errors import NoAnswer
 from halfpicked.sides import sides
 
 
 def is_answer(web, x):
     """True if x is an answer of the web."""
-    if not has_just(x, web.places()):
-        return False
-    if not all([is_between(x[place], 0, 2) for place in x]):
-        return False
-    return all([x[a] + x[b] >= 2 for a, b in web.ties()])
+    return has_values(x, web.places()) and all([x[a] + x[b] >= 2 for a, b in web.ties()])
 
 
 def cost(web, x):
@@ -38,7 +34,7 @@ def is_best(web, x):
 
 def tie_prices(web):
     """Tie prices whose sum is the worth."""
-    return sides(web).tie_flows()
+    return dict(zip(web.ties(), sides(web).row_flows()))
 
 
 def prices_fault(web, y):

@@ -3,7 +3,7 @@
 from halfpicked.checks import is_between
 from halfpicked.errors import BadKept, BadValue, NoAnswer, NoPlace, NotBest
 from halfpicked.halves import is_answer, is_best
-from halfpicked.sides import Sides, sides
+from halfpicked.sides import Sides, merged, sides, tie_rows
 
 
 def merge(web, a, b):
@@ -12,25 +12,17 @@ def merge(web, a, b):
         raise NoAnswer()
     if not is_best(web, a) or not is_best(web, b):
         raise NotBest()
-    return _merged(a, b)
+    return merged(a, b)
 
 
 def kernel(web):
     """The places that are half in every best answer, in ascending order."""
-    values = _values(web)
-    return [place for place in web.places() if values[place] == [1]]
+    return sides(web).halves()
 
 
 def least(web):
     """A best answer in which just the places of the kernel are half."""
-    filled = sides(web)
-    x = filled.answer()
-    for place in web.places():
-        for value in (0, 2):
-            other = filled.answer_with(place, value)
-            if other is not None:
-                x = _merged(x, other)
-    return x
+    return sides(web).least()
 
 
 def can(web, place, x):
@@ -44,14 +36,13 @@ def can(web, place, x):
 
 def fixed(web):
     """The places that are 0 in all best answers or 2 in all of them, with this value."""
-    values = _values(web)
-    return {place: values[place][0] for place in values if values[place] in ([0], [2])}
+    return sides(web).fixed()
 
 
 def loose(web):
     """The places that are 0 in some best answer and 2 in another one, in ascending order."""
-    values = _values(web)
-    return [place for place in web.places() if 0 in values[place] and 2 in values[place]]
+    values = sides(web).possible()
+    return [place for place in values if 0 in values[place] and 2 in values[place]]
 
 
 def forced(web, kept):
@@ -70,26 +61,12 @@ def forced(web, kept):
         left[place] = 0 if kept[place] == 2 else wide
         right[place] = wide if kept[place] == 0 else 0
     paid = sum([prices[place] * kept[place] for place in kept])
-    return paid + Sides(web, left, right).total
+    return paid + Sides(tie_rows(web), left, right).total
 
 
 def all_half(web):
     """True if 1 everywhere is the only best answer."""
     return len(kernel(web)) == len(web)
-
-
-def _merged(a, b):
-    """What is whole in a as in a, the rest as in b."""
-    return {place: b[place] if a[place] == 1 else a[place] for place in a}
-
-
-def _values(web):
-    """For each place, the list of the values that best answers give it."""
-    filled = sides(web)
-    return {
-        place: [value for value in (0, 1, 2) if filled.answer_with(place, value) is not None]
-        for place in web.places()
-    }
 
 
 def _is_kept(web, kept):

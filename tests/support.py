@@ -3,6 +3,7 @@
 import itertools
 import random
 
+from halfpicked.clauses import Clauses
 from halfpicked.webs import Web
 
 GREATEST = 10 ** 30
@@ -132,41 +133,130 @@ def joined(rows):
     return Web(tuple(prices), [tie for _, ties, _ in rows for tie in ties], prices)
 
 
-class Columns:
-    """A wide web in columns, with ties only inside a column and between neighbours.
+def tie_row(a, b):
+    """A tie as a row of clauses."""
+    return ((a, True), (b, True))
 
-    It is solved column by column, without any flow. `least_of(kept)` is the least cost of the
-    answers with these values; `marginals` gives it for each single value of each place.
-    `cover_cost` is the least cost of a cover.
+
+def weight(x, literal):
+    """The value of the literal in x."""
+    name, flag = literal
+    return x[name] if flag else 2 - x[name]
+
+
+def literals(names):
+    """All literals over these names in ascending order."""
+    return [(name, flag) for name in sorted(names) for flag in (False, True)]
+
+
+def true_readings(names, rows):
+    """All true readings, found by trying everything."""
+    readings = (dict(zip(names, flags)) for flags in itertools.product((False, True), repeat=len(names)))
+    return [reading for reading in readings if all(reading[a] == f or reading[b] == g for (a, f), (b, g) in rows)]
+
+
+def cheapest_readings(names, rows, prices):
+    """The least cost of a true reading and all true readings with this cost."""
+    found = [(sum(prices[name] for name in names if x[name]), x) for x in true_readings(names, rows)]
+    low = min(cost for cost, _ in found)
+    return low, [x for cost, x in found if cost == low]
+
+
+def half_listed(names, rows, prices):
+    """All half readings with their half costs, found by trying everything."""
+    found = []
+    for values in itertools.product((0, 1, 2), repeat=len(names)):
+        x = dict(zip(names, values))
+        if all(weight(x, one) + weight(x, two) >= 2 for one, two in rows):
+            found.append((sum(prices[name] * x[name] for name in names), x))
+    return found
+
+
+def step_pairs(rows):
+    """All steps that these rows make, as pairs of literals."""
+    sides = [pair for one, two in rows for pair in ((one, two), (two, one))]
+    return {((name, not flag), head) for (name, flag), head in sides}
+
+
+def closure(names, rows):
+    """For each literal the set of all that follow from it, by adding what can be added."""
+    steps = step_pairs(rows)
+    found = {literal: {literal} for literal in literals(names)}
+    while True:
+        more = {start: {head for tail, head in steps if tail in some} - some for start, some in found.items()}
+        if not any(more.values()):
+            return found
+        for start in found:
+            found[start] |= more[start]
+
+
+def small_clauses():
+    """All sets of rows over one name, many over two, and some lists of rows over up to five names."""
+    rng = random.Random(33)
+    for names in ("a", "ab"):
+        for rows in subsets(list(itertools.combinations_with_replacement(literals(names), 2))):
+            yield list(names), rows, {name: rng.choice((0, 1, 1, 2, 3)) for name in names}
+    for many in (3, 4, 5):
+        names = list("abcde"[:many])
+        for size in range(2, 3 * many):
+            for top in (0, 1, 3, 3, GREATEST):
+                yield names, random_rows(rng, names, size), {name: rng.randint(0, top) for name in names}
+
+
+def random_rows(rng, names, size, hidden=None):
+    """Rows over these names; if a reading is given, it is true in all of them."""
+    rows = []
+    while len(rows) < size:
+        row = tuple((rng.choice(names), rng.random() < 0.6) for _ in "ab")
+        if hidden is None or any(hidden[name] == flag for name, flag in row):
+            rows.append(row)
+    return rows
+
+
+def told(clauses):
+    """All that a Clauses object tells."""
+    names = clauses.names()
+    return (names, clauses.rows(), [clauses.price(name) for name in names], len(clauses))
+
+
+class Columns:
+    """Wide clauses in columns, with rows only inside a column and between neighbours.
+
+    They are solved column by column, without any flow. `row` makes the row of two names; if it is
+    left out, each row is a tie, and `web` is the web of these ties. `least_of(kept)` is the least
+    cost of the answers with these values; `marginals` gives it for each single value of each name.
+    `cover_cost` is the least cost of a cover or a true reading, or None.
     """
 
     values = (0, 1, 2)
 
-    def __init__(self, rng, many, rows, density, price):
-        names = letters(many * rows)
-        self.columns = [names[k:k + rows] for k in range(0, many * rows, rows)]
-        self.inner = [[tie for tie in pairs(col) if rng.random() < density] for col in self.columns]
+    def __init__(self, rng, many, height, density, price, row=tie_row):
+        names = letters(many * height)
+        self.columns = [names[k:k + height] for k in range(0, many * height, height)]
+        self.inner = [[row(a, b) for a, b in pairs(col) if rng.random() < density] for col in self.columns]
         self.outer = [
-            [tie for tie in itertools.product(one, two) if rng.random() < density]
+            [row(a, b) for a, b in itertools.product(one, two) if rng.random() < density]
             for one, two in zip(self.columns, self.columns[1:])
         ]
         self.prices = {name: price() for name in names}
-        ties = [tie for group in self.inner + self.outer for tie in group]
-        self.web = Web(tuple(names), ties, self.prices)
+        rows = sum(self.inner + self.outer, [])
+        self.clauses = Clauses(tuple(names), rows, self.prices)
+        if row is tie_row:
+            self.web = Web(tuple(names), [(a, b) for (a, _), (b, _) in rows], self.prices)
 
     def _states(self, k, kept):
         col = self.columns[k]
         for values in itertools.product(self.values, repeat=len(col)):
             x = dict(zip(col, values))
-            if all(x[a] + x[b] >= 2 for a, b in self.inner[k]):
+            if all(weight(x, one) + weight(x, two) >= 2 for one, two in self.inner[k]):
                 if all(kept.get(name, x[name]) == x[name] for name in col):
                     yield values, sum(self.prices[name] * x[name] for name in col)
 
     def _fits(self, k):
         """A test of two states of neighbouring columns."""
         one, two = self.columns[k], self.columns[k + 1]
-        ties = [(one.index(a), two.index(b)) for a, b in self.outer[k]]
-        return lambda left, right: all(left[i] + right[j] >= 2 for i, j in ties)
+        rows = [((one.index(a), f), (two.index(b), g)) for (a, f), (b, g) in self.outer[k]]
+        return lambda left, right: all(weight(left, a) + weight(right, b) >= 2 for a, b in rows)
 
     def _sweep(self, states, order, fits):
         """For each column, each state's least cost of the columns up to it in this order."""
@@ -201,7 +291,17 @@ class Columns:
         self.values = (0, 2)
         found = self.least_of({})
         del self.values
-        return found // 2
+        return None if found is None else found // 2
+
+    def flags(self):
+        """For each name the list of the flags that the cheapest true readings give it."""
+        self.values = (0, 2)
+        low, costs = self.least_of({}), self.marginals()
+        del self.values
+        return {
+            name: [flag for flag, value in ((False, 0), (True, 2)) if costs.get((name, value)) == low]
+            for name in self.prices
+        }
 
     def marginals(self):
         states, there, back = self._solved({})

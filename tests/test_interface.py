@@ -3,7 +3,7 @@
 import inspect
 import unittest
 
-from halfpicked import back, covers, curves, errors, halves, kernel, webs, whole
+from halfpicked import back, clauses, covers, curves, errors, halves, kernel, live, readings, texts, webs, whole
 from tests.support import pairs
 
 FUNCTIONS = {
@@ -23,6 +23,22 @@ FUNCTIONS = {
     whole: {"is_whole": "web", "whole_paper": "web", "odd": "web", "least_whole": "web"},
     curves: {"keeps": "web x place"},
     back: {"prices_for": "web x", "only_for": "web x", "fault_of": "web x"},
+    clauses: {
+        "is_true": "clauses reading", "reading_cost": "clauses reading", "truth": "clauses",
+        "follows": "clauses literal", "chain": "clauses literal goal", "ring": "clauses", "must": "clauses",
+        "is_half": "clauses x", "half_cost": "clauses x", "half_worth": "clauses", "half_reading": "clauses",
+        "is_best_half": "clauses x",
+    },
+    readings: {
+        "half_merge": "clauses first second", "half_kernel": "clauses", "half_least": "clauses",
+        "half_fixed": "clauses", "mended_reading": "clauses x reading", "softened_half": "clauses x reading",
+        "best_reading": "clauses", "best_cost": "clauses", "sure_names": "clauses", "of_web": "web",
+    },
+    live: {"trial": "live deeds"},
+    texts: {
+        "web_text": "web", "read_web": "text", "answer_text": "web x", "read_answer": "web text",
+        "clauses_text": "clauses", "read_clauses": "text",
+    },
 }
 METHODS = {
     webs.Web: {
@@ -32,8 +48,17 @@ METHODS = {
         "inside": "places", "__add__": "other",
     },
     curves.Curve: {"__init__": "web place", "breaks": "", "__call__": "price", "at": "price", "__eq__": "other"},
+    clauses.Clauses: {
+        "__init__": "names rows prices", "names": "", "rows": "", "price": "name", "__len__": "", "__contains__": "x",
+        "__eq__": "other", "with_row": "row", "with_cost": "name price",
+    },
+    live.Live: {
+        "__init__": "web", "become": "web", "__getitem__": "place", "__setitem__": "place price", "worth": "",
+        "answer": "", "kernel": "", "tie": "a b", "cut": "a b", "add": "place price", "drop": "place", "undo": "",
+        "moved": "", "__enter__": "", "__exit__": "kind value trace",
+    },
 }
-PROPERTIES = {curves.Curve: ("none", "half", "both")}
+PROPERTIES = {curves.Curve: ("none", "half", "both"), live.Live: ("web",)}
 
 
 class Interface(unittest.TestCase):
@@ -54,19 +79,21 @@ class Interface(unittest.TestCase):
                 self.assertIn(name, vars(owner))
                 parameters = list(inspect.signature(vars(owner)[name]).parameters.values())[1:]
                 self.assertEqual(" ".join(p.name for p in parameters), names)
-        price = inspect.signature(webs.Web.with_place).parameters["price"]
-        self.assertEqual((price.default, price.kind), (1, price.KEYWORD_ONLY))
+        for method in (webs.Web.with_place, live.Live.add):
+            price = inspect.signature(method).parameters["price"]
+            self.assertEqual((price.default, price.kind), (1, price.KEYWORD_ONLY))
 
     def test_classes(self):
-        self.assertEqual(webs.Web.__module__, "halfpicked.webs")
-        self.assertEqual(curves.Curve.__module__, "halfpicked.curves")
+        for module, owner in ((webs, webs.Web), (curves, curves.Curve), (clauses, clauses.Clauses), (live, live.Live)):
+            self.assertEqual(owner.__module__, module.__name__)
         for owner, names in PROPERTIES.items():
             for name in names:
                 self.assertIsInstance(vars(owner)[name], property)
 
-    def test_webs_are_not_iterable(self):
+    def test_what_is_not_iterable(self):
         web = webs.Web(("a", "b"), pairs("ab"), {"a": 1, "b": 1})
-        self.assertRaises(TypeError, iter, web)
+        for value in (web, live.Live(web), readings.of_web(web)):
+            self.assertRaises(TypeError, iter, value)
 
     def test_the_base_error(self):
         self.assertTrue(issubclass(errors.HalfError, ValueError))

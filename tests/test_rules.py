@@ -18,6 +18,10 @@ LIBRARY = {
     "itertools": {"product", "combinations", "permutations"},
 }
 # Web has `__eq__`, so generator expressions give way to lists everywhere (L7).
+FORBIDDEN = set("""
+    register mro elements open input law version_info with_traceback add_note type typing enum Enum Flag Generic
+    Protocol ABC eval exec exit getattr setattr hasattr delattr globals locals vars dir id
+""".split())
 BARRED = (ast.GeneratorExp, ast.Global, ast.AsyncFunctionDef, ast.Await, ast.AsyncFor, ast.AsyncWith, ast.Div)
 
 
@@ -93,6 +97,66 @@ class Rules(unittest.TestCase):
         for node in functions:
             if any(isinstance(part, (ast.Yield, ast.YieldFrom)) for part in ast.walk(node)):
                 self.assertEqual(names.count(node.name), 1, node.name)
+
+    def classes(self):
+        return [node for _, node in self.nodes() if isinstance(node, ast.ClassDef)]
+
+    def stored_attributes(self, tree):
+        """The attributes that are assigned below this node."""
+        return {n.attr for n in ast.walk(tree) if isinstance(n, ast.Attribute) and isinstance(n.ctx, ast.Store)}
+
+    def test_forbidden_names(self):
+        for where, node in self.nodes():
+            for field in ("id", "attr", "arg", "name"):
+                self.assertNotIn(getattr(node, field, None), FORBIDDEN, where)
+
+    def test_methods_and_attributes(self):
+        properties = set()
+        for owner in self.classes():
+            methods = {node.name: node for node in owner.body if isinstance(node, ast.FunctionDef)}
+            self.assertEqual(set(methods) & self.stored_attributes(owner), set(), owner.name)
+            if "__getitem__" in methods:
+                self.assertIsInstance(methods["__iter__"].body[0], ast.Raise)
+                self.assertNotIn("__len__", methods)
+            properties |= {name for name, node in methods.items() if node.decorator_list}
+        for path, tree in self.trees.items():
+            self.assertEqual(properties & self.stored_attributes(tree), set(), path.name)
+
+    def test_ends_of_blocks(self):
+        """An `__exit__` only assigns attributes to attributes."""
+        ends = [node for _, node in self.nodes() if isinstance(node, ast.FunctionDef) and node.name == "__exit__"]
+        self.assertEqual(len(ends), 1)
+        for row in ends[0].body:
+            self.assertIsInstance(row, ast.Assign)
+            self.assertIsInstance(row.value, ast.Attribute)
+
+    def test_tables_are_not_passed_on(self):
+        """A dict or a list at module level is only asked `in` and by an index, or read by a loop."""
+        for path, tree in self.trees.items():
+            tables = {
+                node.targets[0].id for node in tree.body
+                if isinstance(node, ast.Assign) and isinstance(node.value, (ast.Dict, ast.List))
+            }
+            fine = set()
+            for node in ast.walk(tree):
+                if isinstance(node, ast.Compare) and isinstance(node.ops[-1], (ast.In, ast.NotIn)):
+                    fine.add(node.comparators[-1])
+                if isinstance(node, ast.Subscript) and isinstance(node.ctx, ast.Load):
+                    fine.add(node.value)
+            for node in ast.walk(tree):
+                if isinstance(node, ast.Name) and isinstance(node.ctx, ast.Load) and node.id in tables:
+                    self.assertIn(node, fine, f"{path.name}:{node.lineno}")
+
+    def test_no_circles_of_imports(self):
+        found = {
+            f"halfpicked.{path.stem}": {node.module for node in ast.walk(tree) if isinstance(node, ast.ImportFrom)}
+            for path, tree in self.trees.items()
+        }
+        while found:
+            free = [name for name, needs in found.items() if not needs & set(found)]
+            self.assertTrue(free, found)
+            for name in free:
+                del found[name]
 
 
 if __name__ == "__main__":
