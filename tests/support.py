@@ -213,6 +213,49 @@ def random_rows(rng, names, size, hidden=None):
     return rows
 
 
+def cut_worth(rows, prices):
+    """The least half cost, as a least cut between literals that is found by single shortest paths."""
+    room = {}
+    for tail, head in step_pairs(rows):
+        room.setdefault(tail, {})[head] = 2 * sum(prices.values()) + 1
+    for name, price in prices.items():
+        room.setdefault("source", {})[(name, False)] = price
+        room.setdefault((name, True), {})["sink"] = price
+    total = 0
+    while True:
+        before, border = {"source": None}, ["source"]
+        for node in border:
+            for head, left in room.get(node, {}).items():
+                if left and head not in before:
+                    before[head] = node
+                    border.append(head)
+        if "sink" not in before:
+            return total
+        way = ["sink"]
+        while before[way[-1]] is not None:
+            way.append(before[way[-1]])
+        arcs = list(zip(way[1:], way))
+        amount = min(room[tail][head] for tail, head in arcs)
+        for tail, head in arcs:
+            room[tail][head] -= amount
+            room.setdefault(head, {}).setdefault(tail, 0)
+            room[head][tail] += amount
+        total += amount
+
+
+def cut_values(rows, prices):
+    """For each name with a price above 0 the least and the greatest value in the best half readings.
+
+    If all prices are much larger, a price that is larger or smaller by 1 shows them.
+    """
+    large = {name: 10 * price for name, price in prices.items()}
+    low = cut_worth(rows, large)
+    return {
+        name: (cut_worth(rows, {**large, name: price + 1}) - low, low - cut_worth(rows, {**large, name: price - 1}))
+        for name, price in large.items() if price > 0
+    }
+
+
 def told(clauses):
     """All that a Clauses object tells."""
     names = clauses.names()

@@ -10,8 +10,8 @@ from halfpicked.clauses import (
 from halfpicked.errors import NoHalf, NoReading, NotBest
 from halfpicked.readings import half_fixed, half_kernel, half_least, half_merge, mended_reading, softened_half
 from tests.support import (
-    GREATEST, Columns, best_of, half_listed, letters, odd_integers, odd_values, random_rows, small_clauses, told,
-    true_readings, values_of,
+    GREATEST, Columns, best_of, cut_values, cut_worth, half_listed, letters, odd_integers, odd_values, random_rows,
+    small_clauses, told, true_readings, values_of,
 )
 from tests.test_steps import CLAUSES, FALSE, NO_READINGS
 
@@ -263,24 +263,36 @@ class WideClauses(unittest.TestCase):
                 sizes.add(len(self.check(wide.clauses, low, costs)))
         self.assertGreater(len(sizes), 6)
 
-    def test_four_hundred_rows(self):
+    def test_up_to_four_hundred_rows(self):
         rng = random.Random(36)
         names = letters(40)
-        for top in (1, 3, GREATEST):
+        sizes = set()
+        for size, top in itertools.product((30, 50, 80, 400), (1, GREATEST)):
+            hidden = {name: rng.random() < 0.5 for name in names}
+            rows = random_rows(rng, names, size, hidden if rng.random() < 0.8 else None)
+            prices = {name: rng.randint(1, top) for name in names}
+            clauses = Clauses(tuple(names), rows, prices)
+            ends = cut_values(rows, prices)
+            low = cut_worth(rows, prices)
+            costs = {(name, value): low for name in names for value in range(ends[name][0], ends[name][1] + 1)}
+            sizes.add(len(self.check(clauses, low, costs)))
+        self.assertGreater(len(sizes), 3)
+
+    def test_mended_in_wide_clauses(self):
+        rng = random.Random(38)
+        names = letters(40)
+        for size, top in itertools.product((40, 400), (1, 3, GREATEST)):
             hidden = {name: rng.random() < 0.5 for name in names}
             prices = {name: rng.randint(0, top) for name in names}
-            clauses = Clauses(tuple(names), random_rows(rng, names, 400, hidden), prices)
-            x = half_reading(clauses)
-            self.assertIs(is_half(clauses, x), True)
-            self.assertEqual(half_cost(clauses, x), half_worth(clauses))
+            clauses = Clauses(tuple(names), random_rows(rng, names, size, hidden), prices)
             self.assertLessEqual(half_worth(clauses), 2 * reading_cost(clauses, hidden))
-            self.assertLessEqual(half_worth(clauses), sum(prices.values()))
-            better = mended_reading(clauses, half_least(clauses), hidden)
+            x = half_least(clauses)
+            better, softer = mended_reading(clauses, x, hidden), softened_half(clauses, x, hidden)
             self.assertIs(is_true(clauses, better), True)
-            self.assertLessEqual(reading_cost(clauses, better), reading_cost(clauses, hidden))
-            fixed = half_fixed(clauses)
-            self.assertTrue(all(x[name] == fixed[name] for name in fixed))
-            self.assertTrue(all(x[name] == 1 for name in half_kernel(clauses)))
+            self.assertIs(is_half(clauses, softer), True)
+            fall = reading_cost(clauses, hidden) - reading_cost(clauses, better)
+            self.assertEqual(fall, half_cost(clauses, softer) - half_cost(clauses, x))
+            self.assertGreaterEqual(fall, 0)
 
 
 if __name__ == "__main__":
